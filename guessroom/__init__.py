@@ -1,0 +1,1 @@
+"""Guessroom: hidden houses found by asking."""
