@@ -30,6 +30,11 @@ METHODS = frozenset((
 DUNDERS = frozenset("__init__ __eq__ __repr__ __str__ __len__".split())
 WALKED = frozenset("zip enumerate reversed range".split())
 WALKERS = frozenset("list tuple dict sorted sum any all enumerate zip min max".split())
+# L26: a value of an object may have a few names of Python's own methods, and no others of them.
+VALUES = frozenset("count index title find get join lower upper split strip copy add".split())
+TAKEN_VALUES = frozenset(
+    name for kind in (str, int, list, tuple, dict, set, bytes) for name in dir(kind)
+) - VALUES | frozenset(("args",))
 UNUSED_NAMES = frozenset("register mro elements open input version_info".split())
 WORDS = re.compile(
     r"\b(type|typing|typing_extensions|enum|Enum|IntEnum|StrEnum|Flag|IntFlag|Generic|Protocol"
@@ -251,24 +256,52 @@ def walk_faults(tree):
         if isinstance(node, ast.Call) and isinstance(node.func, ast.Name):
             if node.func.id in WALKED and node not in allowed:
                 found.append(("L23", node.lineno))
-        elif isinstance(node, ast.Assign) and isinstance(node.value, (ast.Set, ast.Call)):
-            value = node.value
-            made_set = isinstance(value, ast.Call) and isinstance(value.func, ast.Name)
-            if isinstance(value, ast.Set) or made_set and value.func.id in ("set", "frozenset"):
-                found.append(("L24", node.lineno))
-    return found
+    return found + set_faults(tree)
 
 
-def own_attributes(trees):
-    """The names of the methods and values that the package's own classes have."""
-    names = set()
-    for tree in trees:
-        for node in ast.walk(tree):
-            if isinstance(node, ast.ClassDef):
-                names.update(part.name for part in node.body if isinstance(part, ast.FunctionDef))
-            elif isinstance(node, ast.Attribute) and isinstance(node.ctx, ast.Store):
-                names.add(node.attr)
-    return frozenset(names)
+def is_set(node):
+    if isinstance(node, ast.BinOp):
+        return is_set(node.left) or is_set(node.right)
+    if isinstance(node, ast.Call) and isinstance(node.func, ast.Name):
+        return node.func.id in ("set", "frozenset")
+    return isinstance(node, ast.Set)
+
+
+def set_faults(tree):
+    """L24: a set stands beside a comparison, or straight within sorted or len, and nowhere else."""
+    allowed = set()
+    for node in ast.walk(tree):
+        if isinstance(node, ast.Compare):
+            allowed.update([node.left] + node.comparators)
+        elif isinstance(node, ast.BinOp) and is_set(node):
+            allowed.update((node.left, node.right))
+        elif isinstance(node, ast.Call) and isinstance(node.func, ast.Name):
+            if node.func.id in ("sorted", "len") and not node.keywords:
+                allowed.update(node.args)
+    return [
+        ("L24", node.lineno) for node in ast.walk(tree)
+        if isinstance(node, ast.expr) and is_set(node) and node not in allowed
+    ]
+
+
+def own_methods(trees):
+    """The names of the methods that the package's own classes have."""
+    return frozenset(
+        part.name
+        for tree in trees
+        for node in ast.walk(tree) if isinstance(node, ast.ClassDef)
+        for part in node.body if isinstance(part, ast.FunctionDef)
+    )
+
+
+def own_values(trees):
+    """The names of the values that the package's own objects have."""
+    return frozenset(
+        node.attr
+        for tree in trees
+        for node in ast.walk(tree)
+        if isinstance(node, ast.Attribute) and isinstance(node.ctx, ast.Store)
+    )
 
 
 def imports(tree):

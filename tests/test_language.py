@@ -36,6 +36,9 @@ BAD = (
     ("def f(x):\n    return x is 1\n", "L20"),
     ("def f(x):\n    y = range(x)\n    return y\n", "L23"),
     ("def f(x):\n    y = set(x)\n    return 1 in y\n", "L24"),
+    ("def f(x):\n    return sorted(set(x), reverse=True)\n", "L24"),
+    ("def f(x):\n    return list(set(x))\n", "L24"),
+    ("def f(x):\n    return [y for y in {x}]\n", "L24"),
     ("def f(x):\n    x.sort()\n", "L25"),
     ("def f(x):\n    return 2 ** x\n", "L27"),
     ("def f(x):\n    return \"100%\"\n", "L27"),
@@ -57,10 +60,18 @@ class LanguageTest(unittest.TestCase):
             self.assertRegex(path.name, language.FILE_NAME)
 
     def test_rules_in_each_file(self):
-        own = language.own_attributes(trees().values())
+        own = language.own_methods(trees().values()) | language.own_values(trees().values())
         for path in files():
             with self.subTest(file=path.name):
                 self.assertEqual(language.faults(PACKAGE, path.read_text("utf-8"), own), [])
+
+    def test_names_of_methods_and_values(self):
+        methods = language.own_methods(trees().values())
+        values = language.own_values(trees().values())
+        self.assertEqual(methods & values, frozenset())
+        self.assertEqual(values & language.TAKEN_VALUES, frozenset())
+        self.assertIn("letters", values)
+        self.assertIn("put", methods)
 
     def test_imports_name_the_file_that_defines(self):
         known = trees()
@@ -80,6 +91,11 @@ class LanguageTest(unittest.TestCase):
             self.assertTrue(free, left)
             for name in free:
                 del left[name]
+
+    def test_sets_where_they_may_stand(self):
+        for shown in ("len(set(x))", "sorted(set(x) - set(y))", "x in set(y)", "set(x) == set(y)"):
+            source = f"def f(x, y):\n    return {shown}\n"
+            self.assertEqual(language.faults(PACKAGE, source), [])
 
     def test_what_is_ruled_out_is_found(self):
         for source, rule in BAD:

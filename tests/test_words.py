@@ -1,21 +1,10 @@
 """[0.3], [0.4], [1.1] and the interface's guessroom/words.py."""
 
-import itertools
 import unittest
 
 from guessroom.errors import BadWord
 from guessroom.words import is_word, less, next_word, place_of, word_at, words_to
-
-FAR = 10 ** 30
-
-
-def words_by_hand(letters, most):
-    """All words by their counts of letters; product tells those of one count in their order."""
-    return [
-        word
-        for count in range(most + 1)
-        for word in itertools.product(range(letters), repeat=count)
-    ]
+from samples import FAR, words_by_hand
 
 
 def long_words(letters):
