@@ -7,14 +7,14 @@ from guessroom.table import cells, first_wrong, guess_of, stranger
 from guessroom.words import check_word
 
 
-# The word is one that the guess answers otherwise than told. With more of it walked in the guess,
-# and an access word in the place of that, the answer goes over from what was told to the mark of
-# the guess: halving finds such a place, and what lies behind it makes a row of the table strange.
-def halved(book, access, guess, word):
+# The word is one that the guess answers otherwise than told, with this mark. With more of it walked
+# in the guess, and an access word in the place of that, the answer goes over from what was told to
+# the mark, up to the last place, at which a telling word is left: halving finds such a place, and
+# what lies behind it makes a row of the table strange.
+def halved(book, access, guess, word, mark, last):
     rooms = trail(guess, word)
-    mark = guess[1][rooms[-1]]
     low = 0
-    high = len(word)
+    high = last
     while high - low > 1:
         middle = (low + high) // 2
         asked = access[rooms[middle]] + word[middle:]
@@ -34,7 +34,7 @@ class Asker:
         self.most = most
         self.book = Book(letters)
         self.ways = [()]
-        self.ends = [()]
+        self.ends = self.first_ends()
         self.gaps = []
         self.guess = None
         self.wrong = None
@@ -58,7 +58,7 @@ class Asker:
         self.check_wants("show")
         check_word(self.letters, word)
         check_mark(mark)
-        if mark_behind(self.wish[1], word) == mark:
+        if self.answer(self.wish[1], word) == mark:
             raise NoDifference("the house shown answers so")
         self.book.put(word, mark)
         self.go_on()
@@ -93,7 +93,9 @@ class Asker:
         return self.look_at_guess()
 
     def halve(self):
-        found = halved(self.book, self.ways, self.guess, self.wrong)
+        mark = self.answer(self.guess, self.wrong)
+        last = len(self.wrong) - len(self.ends[0])
+        found = halved(self.book, self.ways, self.guess, self.wrong, mark, last)
         if found[0] == "ask":
             return found
         self.wrong = None
@@ -109,8 +111,8 @@ class Asker:
         return None
 
     def look_at_guess(self):
-        self.guess = guess_of(self.book, self.letters, self.ways, self.ends)
-        self.wrong = first_wrong(self.book, self.guess)
+        self.guess = self.make_guess()
+        self.wrong = self.wrong_word()
         if self.wrong is None:
             return ("show", self.guess)
         return None
@@ -119,3 +121,16 @@ class Asker:
     def look_for_gaps(self):
         words = cells(self.letters, self.ways, self.ends)
         self.gaps = [word for word in words if self.book.told(word) is None]
+
+    # What follows hangs on the kind of house that is looked for.
+    def first_ends(self):
+        return [()]
+
+    def answer(self, house, word):
+        return mark_behind(house, word)
+
+    def make_guess(self):
+        return guess_of(self.book, self.letters, self.ways, self.ends)
+
+    def wrong_word(self):
+        return first_wrong(self.book, self.guess)

@@ -66,8 +66,13 @@ def guess_of(book, letters, access, ends):
     return (letters, room_marks, ways_by_marks(letters, access, marks))
 
 
-def first_wrong(book, house):
-    for word, mark in book.heard():
-        if mark_behind(house, word) != mark:
+# The first word of what was heard that the house answers otherwise, as answer tells it.
+def first_unlike(heard, answer, house):
+    for word, told in heard:
+        if answer(house, word) != told:
             return word
     return None
+
+
+def first_wrong(book, house):
+    return first_unlike(book.heard(), mark_behind, house)

@@ -1,11 +1,12 @@
-"""Hunts: an Asker that is led from its first word to its end, and looked at after each deed."""
+"""Hunts: an asker that is led from its first word to its end, and looked at after each deed."""
 
 import zlib
 
 from guessroom.asker import Asker
 from guessroom.errors import BadMark, BadWord, Contradiction, NoDifference, OutOfTurn
+from guessroom.sayasker import SayAsker
 from guessroom.telling import difference
-from samples import FAR, TOP, answer
+from samples import FAR, TOP, answer, say_answer
 
 WRONG_MARKS = (-1, TOP + 1, -FAR, FAR)
 
@@ -25,13 +26,28 @@ class Watched:
         self.letters = letters
         self.most = most
         self.nagged = nagged
-        self.asker = Asker(letters, most)
-        self.twin = Asker(letters, most)
+        self.asker = self.kind(letters, most)
+        self.twin = self.kind(letters, most)
         self.told = {}
         self.asked = 0
         self.shown = []
-        self.last_words = ([()], [()])
+        self.last_words = ([()], self.first_ends())
         self.look()
+
+    # What follows up to bound hangs on the kind of house that is looked for.
+    kind = Asker
+
+    def first_ends(self):
+        return [()]
+
+    def answer(self, house, word):
+        return answer(house, word)
+
+    def marks_of_room(self, word):
+        return self.told[word]
+
+    def bound(self, count):
+        return (1 + count * self.letters) * count + 10 * (count - 1)
 
     def wish(self):
         return self.asker.wants()
@@ -97,7 +113,6 @@ class Watched:
             test.assertIn(word[-1], range(self.letters))
         test.assertEqual(len(set(access)), len(access))
         test.assertLessEqual(len(access), self.most)
-        test.assertEqual(ends[0], ())
         test.assertEqual(len(set(ends)), len(ends))
         test.assertEqual(access[:len(self.last_words[0])], self.last_words[0])
         test.assertEqual(ends[:len(self.last_words[1])], self.last_words[1])
@@ -113,7 +128,7 @@ class Watched:
         return [self.told[word + end] for end in self.asker.tellers()]
 
     def look_at_table(self):
-        """There is no gap, no two access words' marks are alike, and the bound of [4.6] holds."""
+        """There is no gap, no two access words' marks are alike, and the bound holds."""
         access = self.asker.access()
         for word in access:
             for row in [word] + [word + (letter,) for letter in range(self.letters)]:
@@ -122,8 +137,7 @@ class Watched:
         for place, row in enumerate(rows):
             self.test.assertNotIn(row, rows[:place])
         count = len(access) + (self.wish()[0] == "spent")
-        bound = (1 + count * self.letters) * count + 10 * (count - 1)
-        self.test.assertLessEqual(self.asked, bound)
+        self.test.assertLessEqual(self.asked, self.bound(count))
 
     def look_at_spent(self, word):
         test = self.test
@@ -142,10 +156,10 @@ class Watched:
             tuple(rows.index(self.marks(word + (letter,))) for letter in range(self.letters))
             for word in access
         )
-        due = (self.letters, tuple(self.told[word] for word in access), ways)
+        due = (self.letters, tuple(self.marks_of_room(word) for word in access), ways)
         self.test.assertEqual(house, due)
         for word, mark in self.told.items():
-            self.test.assertEqual(answer(house, word), mark)
+            self.test.assertEqual(self.answer(house, word), mark)
 
     def nag(self):
         """Each deed that is to be refused now, in the order of the refusals."""
@@ -170,20 +184,49 @@ class Watched:
         differ = self.asker.differ
         for number in (-1, self.letters, FAR):
             for word in ((number,), (0, number), (0,) * 399 + (number,)):
-                for mark in (0, answer(house, ())) + WRONG_MARKS:
+                for mark in (0, TOP) + WRONG_MARKS:
                     self.refused(BadWord, differ, word, mark)
         words = list(self.told)[:3] + list(self.told)[-3:] + [(0,) * 400, (0,) * 31]
         for word in words:
             for mark in WRONG_MARKS:
                 self.refused(BadMark, differ, word, mark)
-            self.refused(NoDifference, differ, word, answer(house, word))
+            self.refused(NoDifference, differ, word, self.answer(house, word))
         for word in self.told:
             for mark in (0, 1, TOP):
-                if mark != answer(house, word):
+                if mark != self.answer(house, word):
                     self.refused(Contradiction, differ, word, mark)
 
     def refused(self, kind, function, *handed):
         self.test.assert_refused(kind, function, *handed)
+
+
+class WatchedSays(Watched):
+    kind = SayAsker
+
+    def first_ends(self):
+        return [(letter,) for letter in range(self.letters)]
+
+    def answer(self, house, word):
+        return say_answer(house, word)
+
+    def marks_of_room(self, word):
+        return tuple(self.told[word + (letter,)] for letter in range(self.letters))
+
+    def bound(self, count):
+        return (1 + count * self.letters) * (count + self.letters) + 10 * (count - 1)
+
+    def look_at_asking(self, word):
+        Watched.look_at_asking(self, word)
+        self.test.assertNotEqual(word, ())
+
+    def look_at_words(self):
+        Watched.look_at_words(self)
+        self.test.assertNotIn((), self.asker.tellers())
+
+    def nag_with_objections(self, house):
+        for mark in (0, TOP) + WRONG_MARKS:
+            self.refused(BadWord, self.asker.differ, (), mark)
+        Watched.nag_with_objections(self, house)
 
 
 def lead(watched, house, objection):
@@ -191,34 +234,77 @@ def lead(watched, house, objection):
     while not watched.ended():
         kind, thing = watched.wish()
         if kind == "ask":
-            watched.hear(answer(house, thing))
+            watched.hear(watched.answer(house, thing))
             continue
         word = objection(house, thing)
         if word is None:
             watched.agree()
         else:
-            watched.differ(word, answer(house, word))
+            watched.differ(word, watched.answer(house, word))
     return watched.wish()
+
+
+def drive(watched, answer_for, objection_for):
+    """Whatever it is told, it comes to its end; the objections stop only where it ends."""
+    while not watched.ended():
+        kind, thing = watched.wish()
+        if kind == "ask":
+            watched.hear(answer_for(thing))
+            continue
+        word = untold(objection_for(thing), watched.told)
+        mark = watched.answer(thing, word)
+        watched.differ(word, mark - 1 if mark > 0 else mark + 1)
+    watched.test.assertEqual(watched.wish()[0], "spent")
+    watched.test.assertLessEqual(len(watched.shown), watched.most)
+
+
+def untold(word, told):
+    """The longest end of the word that was not told, or the word with noughts behind it."""
+    for place in range(len(word)):
+        if word[place:] not in told:
+            return word[place:]
+    while word in told:
+        word = word + (0,)
+    return word
 
 
 def long_objection(count):
     """A word with just so many letters that tells two houses apart, where there is one; else
     the one with the most letters that are fewer."""
     def objection(house, other):
-        levels = [{(0, 0): None}]
-        for number in range(count):
-            level = {}
-            for pair in levels[-1]:
-                goals = list(zip(house[2][pair[0]], other[2][pair[1]]))
-                for letter, goal in enumerate(goals):
-                    level.setdefault(goal, (pair, letter))
-            levels.append(level)
+        levels = levels_of(house, other, count)
         for at in range(count, -1, -1):
             for pair in levels[at]:
                 if house[1][pair[0]] != other[1][pair[1]]:
                     return word_of(levels, at, pair)
         return None
     return objection
+
+
+def long_saying(count):
+    """The same of two houses that say."""
+    def objection(house, other):
+        levels = levels_of(house, other, count - 1)
+        for at in range(count - 1, -1, -1):
+            for pair in levels[at]:
+                rows = zip(house[1][pair[0]], other[1][pair[1]])
+                for letter, (one, two) in enumerate(rows):
+                    if one != two:
+                        return word_of(levels, at, pair) + (letter,)
+        return None
+    return objection
+
+
+def levels_of(house, other, count):
+    """For each count of letters the pairs of rooms behind such words, each with a step to it."""
+    levels = [{(0, 0): None}]
+    for number in range(count):
+        level = {}
+        for pair in levels[-1]:
+            for letter, goal in enumerate(zip(house[2][pair[0]], other[2][pair[1]])):
+                level.setdefault(goal, (pair, letter))
+        levels.append(level)
+    return levels
 
 
 def word_of(levels, at, pair):

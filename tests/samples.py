@@ -5,6 +5,9 @@ import random
 
 TOP = 1000000000
 FAR = 10 ** 30
+# The greatest prime below 10 ** 18.
+GREAT = 10 ** 18 - 11
+PRIMES = (2, 3, 7, 1000003, GREAT)
 
 
 def words_by_hand(letters, most):
@@ -21,6 +24,16 @@ def answer(house, word, room=0):
     for letter in word:
         room = house[2][room][letter]
     return house[1][room]
+
+
+def say_answer(house, word):
+    """What the last way along the word says."""
+    room = 0
+    mark = None
+    for letter in word:
+        mark = house[1][room][letter]
+        room = house[2][room][letter]
+    return mark
 
 
 def all_houses(letters, rooms, marks):
@@ -44,6 +57,31 @@ def random_houses(seed, count, most_letters=3, most_rooms=8, marks=(0, 1)):
     chance = random.Random(seed)
     return [
         random_house(
+            chance, chance.randint(1, most_letters), chance.randint(1, most_rooms), marks
+        )
+        for number in range(count)
+    ]
+
+
+def all_says(letters, rooms, marks):
+    """Every house that says, with so many letters and rooms and with these marks."""
+    goals = list(itertools.product(range(rooms), repeat=letters))
+    rows = list(itertools.product(marks, repeat=letters))
+    for says in itertools.product(rows, repeat=rooms):
+        for ways in itertools.product(goals, repeat=rooms):
+            yield (letters, says, ways)
+
+
+def random_says(chance, letters, rooms, marks=(0, 1)):
+    house = random_house(chance, letters, rooms)
+    says = tuple(tuple(chance.choice(marks) for k in range(letters)) for room in range(rooms))
+    return (letters, says, house[2])
+
+
+def many_says(seed, count, most_letters=3, most_rooms=8, marks=(0, 1)):
+    chance = random.Random(seed)
+    return [
+        random_says(
             chance, chance.randint(1, most_letters), chance.randint(1, most_rooms), marks
         )
         for number in range(count)

@@ -7,7 +7,7 @@ from guessroom.asker import Asker
 from guessroom.errors import BadMark, BadWord, Contradiction, NoDifference, OutOfTurn
 from guessroom.least import least
 from guessroom.telling import difference
-from hunts import OBJECTIONS, Watched, lead, long_objection, scattered, state
+from hunts import OBJECTIONS, Watched, drive, lead, long_objection, scattered, state
 from refusals import RefusalTest
 from samples import (
     TOP, all_houses, answer, chain, late_pair, pairs_told_apart, random_house, random_houses,
@@ -17,16 +17,6 @@ from samples import (
 
 def told_alike(house, other):
     return (0, 0) not in pairs_told_apart(house, other)
-
-
-def untold(word, told):
-    """The longest end of the word that was not told, or the word with noughts behind it."""
-    for place in range(len(word)):
-        if word[place:] not in told:
-            return word[place:]
-    while word in told:
-        word = word + (0,)
-    return word
 
 
 class HuntTest(RefusalTest):
@@ -140,18 +130,8 @@ class HuntTest(RefusalTest):
 
 class AnyAnswerTest(RefusalTest):
     def drive(self, letters, most, answer_for, objection_for, nagged=False):
-        """Whatever it is told, it comes to its end; the objections stop only where it ends."""
         watched = Watched(self, letters, most, nagged)
-        while not watched.ended():
-            kind, thing = watched.wish()
-            if kind == "ask":
-                watched.hear(answer_for(thing))
-                continue
-            word = untold(objection_for(thing), watched.told)
-            mark = answer(thing, word)
-            watched.differ(word, mark - 1 if mark > 0 else mark + 1)
-        self.assertEqual(watched.wish()[0], "spent")
-        self.assertLessEqual(len(watched.shown), most)
+        drive(watched, answer_for, objection_for)
         return watched
 
     def test_marks_that_no_house_answers(self):
