@@ -15,9 +15,12 @@ class Book:
         self.letters = letters
         self.marks = {}
 
-    def put(self, word, mark):
+    def check(self, word, mark):
         check_word(self.letters, word)
         check_mark(mark)
+
+    def put(self, word, mark):
+        self.check(word, mark)
         if self.marks.get(word, mark) != mark:
             raise Contradiction("another mark was told for the word")
         self.marks[word] = mark

@@ -5,17 +5,23 @@ from guessroom.table import rows_of, ways_by_marks
 from guessroom.words import is_word
 
 
-def paper_of(asker):
+# The access words and, where the asker is spent, the word over behind them.
+def access_and_over(asker):
     access = asker.access()
     wish = asker.wants()
     if wish[0] == "spent":
         access.append(wish[1])
-    return (asker.letters, tuple(access), tuple(asker.tellers()), tuple(asker.heard()))
+    return tuple(access)
 
 
-def has_letters_alone(paper):
-    words = list(paper[1] + paper[2]) + [pair[0] for pair in paper[3]]
-    return all([is_word(paper[0], word) for word in words])
+def paper_of(asker):
+    return (asker.letters, access_and_over(asker), tuple(asker.tellers()), tuple(asker.heard()))
+
+
+# parts are the access words, the telling words and what was heard.
+def has_letters_alone(letters, parts):
+    words = list(parts[0] + parts[1]) + [pair[0] for pair in parts[2]]
+    return all([is_word(letters, word) for word in words])
 
 
 # What was heard is taken as it stands and not put into a Book, which refuses some marks.
@@ -25,7 +31,7 @@ def marks_heard(heard, word, ends):
 
 def tells_apart(paper):
     heard = dict(paper[3])
-    if len(paper[1]) == 0 or len(heard) < len(paper[3]) or not has_letters_alone(paper):
+    if len(paper[1]) == 0 or len(heard) < len(paper[3]) or not has_letters_alone(paper[0], paper[1:]):
         return False
     rows = [marks_heard(heard, word, paper[2]) for word in paper[1]]
     if any([None in row for row in rows]):

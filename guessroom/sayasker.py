@@ -8,8 +8,8 @@ from guessroom.table import first_unlike, marks_by_row, ways_by_marks
 # The first telling words are those of one letter: so what the ways of an access word's room say
 # are the first marks of its row.
 class SayHunt(Asker):
-    def first_ends(self):
-        return [(letter,) for letter in range(self.letters)]
+    def first_ends(self, letters):
+        return [(letter,) for letter in range(letters)]
 
     def answer(self, house, word):
         return last_said(house, word)

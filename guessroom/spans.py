@@ -61,19 +61,25 @@ def free(p, rows):
 
 
 def unit(size, place):
-    return (0,) * place + (1,) + (0,) * (size - place - 1)
+    return tuple([1 if other == place else 0 for other in range(size)])
 
 
-# Behind each row stands which of the rows it is, so that behind what is left of the row it stands
+# Behind each row stands which of the rows it is, so that behind what is left of a row it stands
 # what was taken away.
-def factors(p, rows, row):
+def factors_of_each(p, rows, some, size):
     count = len(rows)
-    marked = [tuple(other) + unit(count, place) for place, other in enumerate(rows)]
-    bases = chosen_and_bases(p, marked, len(row))[1]
-    left = left_of(p, bases, tuple(row) + (0,) * count)
-    if place_of_first(left[:len(row)]) is not None:
-        return None
-    return [-number % p for number in left[len(row):]]
+    marked = [tuple(row) + unit(count, place) for place, row in enumerate(rows)]
+    bases = chosen_and_bases(p, marked, size)[1]
+    told = []
+    for row in some:
+        left = left_of(p, bases, tuple(row) + (0,) * count)
+        is_made = place_of_first(left[:size]) is None
+        told.append([-number % p for number in left[size:]] if is_made else None)
+    return told
+
+
+def factors(p, rows, row):
+    return factors_of_each(p, rows, [row], len(row))[0]
 
 
 def made_of(p, rows, parts, size):

@@ -26,19 +26,25 @@ class Watched:
         self.letters = letters
         self.most = most
         self.nagged = nagged
-        self.asker = self.kind(letters, most)
-        self.twin = self.kind(letters, most)
+        self.asker = self.make()
+        self.twin = self.make()
         self.told = {}
         self.asked = 0
         self.shown = []
-        self.last_words = ([()], self.first_ends())
+        self.last_words = self.first_words()
         self.look()
 
     # What follows up to bound hangs on the kind of house that is looked for.
-    kind = Asker
+    marks_taken = (0, TOP)
+    marks_refused = WRONG_MARKS
+    # How many houses are shown ahead of the first access word.
+    shown_ahead = 0
 
-    def first_ends(self):
-        return [()]
+    def make(self):
+        return Asker(self.letters, self.most)
+
+    def first_words(self):
+        return [()], [()]
 
     def answer(self, house, word):
         return answer(house, word)
@@ -99,7 +105,7 @@ class Watched:
             self.look_at_house(wish[1])
         if wish[0] == "show":
             if self.shown:
-                test.assertGreater(len(self.asker.access()), len(self.shown[-1][1]))
+                test.assertGreater(len(self.asker.access()), len(self.last_words[0]))
             self.shown.append(wish[1])
         self.last_words = (self.asker.access(), self.asker.tellers())
 
@@ -107,7 +113,7 @@ class Watched:
         test = self.test
         access = self.asker.access()
         ends = self.asker.tellers()
-        test.assertEqual(access[0], ())
+        test.assertIn(access[:1], ([()], self.first_words()[0]))
         for place, word in enumerate(access[1:], 1):
             test.assertIn(word[:-1], access[:place])
             test.assertIn(word[-1], range(self.letters))
@@ -166,17 +172,17 @@ class Watched:
         kind, thing = self.wish()
         before = state(self.asker)
         if kind == "ask":
-            for mark in WRONG_MARKS:
+            for mark in self.marks_refused:
                 self.refused(BadMark, self.asker.hear, mark)
         else:
-            for mark in (0, TOP) + WRONG_MARKS:
+            for mark in self.marks_taken + self.marks_refused:
                 self.refused(OutOfTurn, self.asker.hear, mark)
         if kind == "show":
             self.nag_with_objections(thing)
         else:
             self.refused(OutOfTurn, self.asker.agree)
             for word in ((), (0,), (0,) * 400, (-1,), (self.letters,)):
-                for mark in (0, TOP) + WRONG_MARKS:
+                for mark in self.marks_taken + self.marks_refused:
                     self.refused(OutOfTurn, self.asker.differ, word, mark)
         self.test.assertEqual(state(self.asker), before)
 
@@ -184,15 +190,15 @@ class Watched:
         differ = self.asker.differ
         for number in (-1, self.letters, FAR):
             for word in ((number,), (0, number), (0,) * 399 + (number,)):
-                for mark in (0, TOP) + WRONG_MARKS:
+                for mark in self.marks_taken + self.marks_refused:
                     self.refused(BadWord, differ, word, mark)
         words = list(self.told)[:3] + list(self.told)[-3:] + [(0,) * 400, (0,) * 31]
         for word in words:
-            for mark in WRONG_MARKS:
+            for mark in self.marks_refused:
                 self.refused(BadMark, differ, word, mark)
             self.refused(NoDifference, differ, word, self.answer(house, word))
         for word in self.told:
-            for mark in (0, 1, TOP):
+            for mark in self.marks_taken + (1,):
                 if mark != self.answer(house, word):
                     self.refused(Contradiction, differ, word, mark)
 
@@ -201,10 +207,11 @@ class Watched:
 
 
 class WatchedSays(Watched):
-    kind = SayAsker
+    def make(self):
+        return SayAsker(self.letters, self.most)
 
-    def first_ends(self):
-        return [(letter,) for letter in range(self.letters)]
+    def first_words(self):
+        return [()], [(letter,) for letter in range(self.letters)]
 
     def answer(self, house, word):
         return say_answer(house, word)
@@ -224,7 +231,7 @@ class WatchedSays(Watched):
         self.test.assertNotIn((), self.asker.tellers())
 
     def nag_with_objections(self, house):
-        for mark in (0, TOP) + WRONG_MARKS:
+        for mark in self.marks_taken + self.marks_refused:
             self.refused(BadWord, self.asker.differ, (), mark)
         Watched.nag_with_objections(self, house)
 
@@ -255,7 +262,7 @@ def drive(watched, answer_for, objection_for):
         mark = watched.answer(thing, word)
         watched.differ(word, mark - 1 if mark > 0 else mark + 1)
     watched.test.assertEqual(watched.wish()[0], "spent")
-    watched.test.assertLessEqual(len(watched.shown), watched.most)
+    watched.test.assertLessEqual(len(watched.shown), watched.most + watched.shown_ahead)
 
 
 def untold(word, told):
