@@ -1,14 +1,34 @@
-"""What all askers for one hidden house share: their turns, their book and their words."""
+"""What askers share: their turns, and those for one hidden house their book and their words."""
 
 from guessroom.errors import NoDifference, OutOfTurn
+
+
+# A kind of asker stands under this class and tells besides what it wants next (next_wish), or
+# None where it took a step by itself and another is to be taken.
+class Turns:
+    def __init__(self):
+        self.wish = None
+
+    def wants(self):
+        return self.wish
+
+    def check_wants(self, deed):
+        if self.wish[0] != deed:
+            raise OutOfTurn("the asker wants something else")
+
+    def go_on(self):
+        self.wish = self.next_wish()
+        while self.wish is None:
+            self.wish = self.next_wish()
 
 
 # A kind of asker stands under this class and tells besides: answer (what a house answers for a
 # word), make_guess (the house that its words make), wrong_word (the first word told that the
 # guess answers otherwise), look_at_words (the next step where no word told is wrong) and halve
-# (the next step where one is). A step tells what is wanted, or None where another is to be taken.
-class Hunt:
+# (the next step where one is). A step tells what next_wish is to tell.
+class Hunt(Turns):
     def __init__(self, letters, most, book, ways, ends):
+        Turns.__init__(self)
         self.letters = letters
         self.most = most
         self.book = book
@@ -17,10 +37,6 @@ class Hunt:
         self.gaps = []
         self.guess = None
         self.wrong = None
-        self.wish = None
-
-    def wants(self):
-        return self.wish
 
     def hear(self, number):
         self.check_wants("ask")
@@ -47,15 +63,6 @@ class Hunt:
 
     def heard(self):
         return self.book.heard()
-
-    def check_wants(self, deed):
-        if self.wish[0] != deed:
-            raise OutOfTurn("the asker wants something else")
-
-    def go_on(self):
-        self.wish = self.next_wish()
-        while self.wish is None:
-            self.wish = self.next_wish()
 
     def next_wish(self):
         if len(self.gaps) > 0:

@@ -53,11 +53,15 @@ def parts_behind(first, count, row):
     return parts[1:]
 
 
+def read_count(text, most):
+    count = read_number(text)
+    if not 1 <= count <= most:
+        raise NoText("there are too few or too many")
+    return count
+
+
 def read_letters(first, row):
-    letters = read_number(parts_behind(first, 1, row)[0])
-    if not 1 <= letters <= MOST_LETTERS:
-        raise NoText("there are 1 to 6 letters")
-    return letters
+    return read_count(parts_behind(first, 1, row)[0], MOST_LETTERS)
 
 
 def house_text(house):
