@@ -33,6 +33,12 @@ class Asker(Hunt):
         self.look_for_gaps()
         self.go_on()
 
+    def hear(self, mark):
+        self.keep_answer(mark)
+
+    def differ(self, word, mark):
+        self.keep_objection(word, mark)
+
     def look_for_gaps(self):
         self.ask_for(cells(self.letters, self.ways, self.ends))
 

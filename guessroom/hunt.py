@@ -38,7 +38,7 @@ class Hunt(Turns):
         self.guess = None
         self.wrong = None
 
-    def hear(self, number):
+    def keep_answer(self, number):
         self.check_wants("ask")
         self.book.put(self.wish[1], number)
         self.go_on()
@@ -47,7 +47,7 @@ class Hunt(Turns):
         self.check_wants("show")
         self.wish = ("done", self.wish[1])
 
-    def differ(self, word, number):
+    def keep_objection(self, word, number):
         self.check_wants("show")
         self.book.check(word, number)
         if self.answer(self.wish[1], word) == number:

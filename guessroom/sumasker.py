@@ -76,6 +76,12 @@ class SumAsker(Hunt):
         self.p = p
         self.go_on()
 
+    def hear(self, number):
+        self.keep_answer(number)
+
+    def differ(self, word, number):
+        self.keep_objection(word, number)
+
     def answer(self, house, word):
         return worth(house, word)
 

@@ -6,7 +6,8 @@ import unittest
 from guessroom.errors import BadMark, BadWord, Contradiction, NoDifference, OutOfTurn
 from guessroom.sayasker import SayAsker
 from guessroom.sayhouse import says_difference, says_from, says_least
-from hunts import WatchedSays, drive, lead, long_saying, scattered, state
+from anyanswers import AnyAnswers
+from hunts import WatchedSays, lead, long_saying, state
 from refusals import RefusalTest
 from samples import (
     TOP, all_says, chain, late_pair, many_says, pairs_told_apart, random_says, random_word, ring,
@@ -126,62 +127,8 @@ class HuntTest(RefusalTest):
             self.hunt(house, 6, objection)
 
 
-class AnyAnswerTest(RefusalTest):
-    def drive(self, letters, most, answer_for, objection_for, nagged=False):
-        watched = WatchedSays(self, letters, most, nagged)
-        drive(watched, answer_for, objection_for)
-        return watched
-
-    def test_marks_that_no_house_answers(self):
-        for letters in (1, 2, 6):
-            for most in (1, 2, 12):
-                for kinds in (2, TOP + 1):
-                    self.drive(
-                        letters, most, lambda word: scattered(word, kinds),
-                        lambda house: (letters - 1,) * 400,
-                    )
-
-    def test_always_the_same_mark_and_always_another_one_in_objections(self):
-        chance = random.Random(121)
-        for letters in (1, 2, 6):
-            for most in (1, 2, 12):
-                for mark in (0, TOP):
-                    for count in (2, 30, 400):
-                        self.drive(
-                            letters, most, lambda word: mark,
-                            lambda house: random_word(chance, letters, count),
-                        )
-
-    def test_marks_by_the_count_of_letters(self):
-        chance = random.Random(122)
-        for letters in (1, 2, 6):
-            for every in (50, 390, 401):
-                self.drive(
-                    letters, 12, lambda word: int(len(word) % every == every - 1),
-                    lambda house: random_word(chance, letters, 400),
-                )
-
-    def test_the_longest_objections(self):
-        chance = random.Random(123)
-        longest = 0
-        for letters in (1, 2, 3):
-            for rare in (40, 200):
-                watched = self.drive(
-                    letters, 12, lambda word: int(scattered(word, rare) == 0),
-                    lambda house: random_word(chance, letters, 400),
-                )
-                longest = max(longest, max(len(word) for word in watched.told))
-        self.assertGreater(longest, 400)
-        self.assertLessEqual(longest, 600)
-
-    def test_refusals_along_the_way(self):
-        chance = random.Random(124)
-        for letters in (1, 2):
-            for most in (1, 3):
-                self.drive(
-                    letters, most, lambda word: scattered(word, 2),
-                    lambda house: random_word(chance, letters, 60), nagged=True,
-                )
+class AnyAnswerTest(AnyAnswers, RefusalTest):
+    watched = WatchedSays
 
 
 class DeedsTest(RefusalTest):
