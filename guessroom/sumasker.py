@@ -64,8 +64,7 @@ def new_access(book, access, guess, word, place):
     table = guess[3][word[place]]
     numbers = [book.told(way + word[place + 1:]) for way in access]
     for way, row in zip(access, table):
-        told = book.told(way + word[place:])
-        if told is not None and told != product(book.p, row, numbers):
+        if book.told(way + word[place:]) != product(book.p, row, numbers):
             return way + (word[place],)
     return None
 

@@ -28,6 +28,14 @@ METHODS = frozenset((
     "update upper values zfill bit_length"
 ).split())
 DUNDERS = frozenset("__init__ __eq__ __repr__ __str__ __len__".split())
+# L26: these count as changes.
+CHANGES = frozenset(
+    "append clear extend insert pop remove reverse setdefault update".split()
+)
+KEYWORDS = {
+    "sorted": ("key", "reverse"), "min": ("key", "default"), "max": ("key", "default"),
+    "sum": ("start",), "enumerate": ("start",), "zip": ("strict",),
+}
 WALKED = frozenset("zip enumerate reversed range".split())
 WALKERS = frozenset("list tuple dict sorted sum any all enumerate zip min max".split())
 # L26: a value of an object may have a few names of Python's own methods, and no others of them.
@@ -55,6 +63,10 @@ def faults(package, source, methods=frozenset()):
         + name_faults(tree, methods)
         + node_faults(tree)
         + walk_faults(tree)
+        + loop_faults(tree)
+        + keyword_faults(tree)
+        + error_faults(tree)
+        + class_faults(tree)
     ))
 
 
@@ -281,6 +293,96 @@ def set_faults(tree):
     return [
         ("L24", node.lineno) for node in ast.walk(tree)
         if isinstance(node, ast.expr) and is_set(node) and node not in allowed
+    ]
+
+
+def walked_by(node):
+    """What a loop walks, itself or through enumerate, zip, reversed, items and their like."""
+    if isinstance(node, ast.Call) and isinstance(node.func, ast.Name):
+        if node.func.id in WALKED:
+            return [part for arg in node.args for part in walked_by(arg)]
+    if isinstance(node, ast.Call) and isinstance(node.func, ast.Attribute):
+        if node.func.attr in ("items", "keys", "values"):
+            return walked_by(node.func.value)
+    if isinstance(node, (ast.Name, ast.Attribute, ast.Subscript)):
+        return [as_read(node)]
+    return []
+
+
+def as_read(node):
+    return ast.dump(node).replace("Store()", "Load()")
+
+
+def changed_in(node):
+    """What is changed there: by an index that is given a value, or by a method that changes."""
+    for part in ast.walk(node):
+        if isinstance(part, ast.Subscript) and isinstance(part.ctx, ast.Store):
+            yield as_read(part.value), part.lineno
+        elif isinstance(part, ast.Call) and isinstance(part.func, ast.Attribute):
+            if part.func.attr in CHANGES:
+                yield as_read(part.func.value), part.lineno
+
+
+def loop_faults(tree):
+    """L23: what a loop walks is not changed in it."""
+    found = []
+    for node in ast.walk(tree):
+        if isinstance(node, ast.For):
+            walked = walked_by(node.iter)
+            for part in node.body:
+                found.extend(("L23", at) for what, at in changed_in(part) if what in walked)
+    return found
+
+
+def keyword_faults(tree):
+    """L22: keywords at Python's own names and methods."""
+    found = []
+    for node in ast.walk(tree):
+        if isinstance(node, ast.Call) and node.keywords:
+            names = [keyword.arg for keyword in node.keywords]
+            allowed = None
+            if isinstance(node.func, ast.Attribute) and node.func.attr in METHODS:
+                allowed = ()
+            elif isinstance(node.func, ast.Name) and node.func.id in BUILTINS:
+                allowed = KEYWORDS.get(node.func.id, ())
+            if allowed is not None and not set(names) <= set(allowed):
+                found.append(("L22", node.lineno))
+    return found
+
+
+def error_faults(tree):
+    """L19: errors that are taken by name, and raised on the spot."""
+    found = []
+    for node in ast.walk(tree):
+        if isinstance(node, ast.ExceptHandler):
+            if not isinstance(node.type, ast.Name):
+                found.append(("L19", node.lineno))
+            elif node.type.id in ERRORS - {"KeyError", "ZeroDivisionError", "StopIteration"}:
+                found.append(("L19", node.lineno))
+        elif isinstance(node, ast.Raise) and not isinstance(node.exc, ast.Call):
+            found.append(("L19", node.lineno))
+    return found
+
+
+def class_faults(tree):
+    """L18: a class, which has a name with a great letter first, is called or is a base or named
+    by isinstance, except or raise; or its __init__ is called by one that stands under it."""
+    allowed = set()
+    for node in ast.walk(tree):
+        if isinstance(node, ast.Call):
+            allowed.add(node.func)
+            if isinstance(node.func, ast.Name) and node.func.id == "isinstance":
+                allowed.update(node.args)
+        elif isinstance(node, ast.ClassDef):
+            allowed.update(node.bases)
+        elif isinstance(node, ast.ExceptHandler):
+            allowed.add(node.type)
+        elif isinstance(node, ast.Attribute) and node.attr == "__init__":
+            allowed.add(node.value)
+    return [
+        ("L18", node.lineno) for node in ast.walk(tree)
+        if isinstance(node, ast.Name) and node not in allowed
+        and re.match("[A-Z][a-z]", node.id)
     ]
 
 
